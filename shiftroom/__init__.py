@@ -1,0 +1,1 @@
+"""Seats changed by told moves, and every seating that they lead to."""
