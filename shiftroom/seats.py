@@ -32,18 +32,27 @@ def rest(size):
     return tuple(range(size))
 
 
+def joined(a, b):
+    # For seatings that were looked at: the book joins too many to look at each one again.
+    return tuple([b[seat] for seat in a])
+
+
+def turned(a):
+    senders = list(a)
+    for sender, seat in enumerate(a):
+        senders[seat] = sender
+    return tuple(senders)
+
+
 def then(a, b):
     # Both are looked at before the sizes are: NoSeating goes ahead of OtherSize.
     need_seating(a)
     need_seating(b)
     if len(a) != len(b):
         raise OtherSize("the two seatings are of unlike sizes")
-    return tuple([b[seat] for seat in a])
+    return joined(a, b)
 
 
 def back(a):
     need_seating(a)
-    senders = list(a)
-    for sender, seat in enumerate(a):
-        senders[seat] = sender
-    return tuple(senders)
+    return turned(a)

@@ -29,6 +29,13 @@ UNUSED = set("""register mro elements open input version_info with_traceback add
 WORDS = re.compile(r"\b(type|typing|typing_extensions|enum|Enum|IntEnum|StrEnum|Flag|IntFlag|Generic|Protocol|ABC|ABCMeta"
                    r"|namedtuple|NamedTuple|TypedDict|TYPE_CHECKING|abstractmethod)\b|dataclass|overload|contextmanager")
 PLAIN_NAME = re.compile(r"[A-Za-z][A-Za-z0-9_]*\Z")
+PYTHONS_OWN = {name for kind in (str, int, list, tuple, dict, set, frozenset, bytes, bytearray) for name in dir(kind)}
+FREE_METHODS = METHODS | {"add", "discard", "__init__"}
+FREE_VALUES = set("count index title find get join lower upper split strip copy add".split())
+WALKED = set("zip enumerate reversed range items keys values".split())
+WALKERS = set("list tuple dict sorted sum any all enumerate zip min max join".split())
+KEYWORDS = {"sorted": ("key", "reverse"), "min": ("key", "default"), "max": ("key", "default"), "sum": ("start",),
+            "enumerate": ("start",), "zip": ("strict",)}
 
 
 def text_faults(text):
@@ -116,7 +123,7 @@ def name_faults(tree):
     for name in bound:
         if not PLAIN_NAME.match(name) and name not in DUNDERS:
             faults.append("L12 name " + name)
-        if hasattr(builtins, name) or name in UNUSED:
+        if name not in DUNDERS and hasattr(builtins, name) or name in UNUSED:
             faults.append("L15 or L17 name " + name)
     for node in ast.walk(tree):
         if isinstance(node, ast.Name) and node.id not in OWN_NAMES and node.id not in bound:
@@ -134,10 +141,93 @@ def top_faults(tree, docstring):
     return faults
 
 
+def called_name(node):
+    if not isinstance(node, ast.Call):
+        return None
+    return node.func.attr if isinstance(node.func, ast.Attribute) else getattr(node.func, "id", None)
+
+
+def parents_of(tree):
+    return {child: node for node in ast.walk(tree) for child in ast.iter_child_nodes(node)}
+
+
+def walked_on_the_spot(node, parent):
+    if isinstance(parent, (ast.For, ast.comprehension)):
+        return parent.iter is node
+    return called_name(parent) in WALKERS and parent.args[:1] == [node] or called_name(parent) == "zip"
+
+
+def set_on_the_spot(node, parents):
+    parent = parents[node]
+    while isinstance(parent, ast.BinOp):
+        parent = parents[parent]
+    if isinstance(parent, ast.Compare):
+        return isinstance(parent.ops[0], (ast.In, ast.NotIn, ast.Eq, ast.NotEq))
+    return called_name(parent) in ("sorted", "len") and not parent.keywords
+
+
+def use_faults(tree):
+    parents = parents_of(tree)
+    own_defs = {node.name for node in ast.walk(tree) if isinstance(node, (ast.FunctionDef, ast.ClassDef))}
+    faults = []
+    for node in ast.walk(tree):
+        name = called_name(node)
+        if name in WALKED and not walked_on_the_spot(node, parents[node]):
+            faults.append("L23 kept " + name)
+        if name in ("set", "frozenset") and not set_on_the_spot(node, parents):
+            faults.append("L24 set")
+        if isinstance(node, ast.Call) and name not in own_defs:
+            if any(part.arg not in KEYWORDS.get(name, ()) for part in node.keywords):
+                faults.append("L22 keyword")
+        if isinstance(node, ast.Attribute) and node.attr in METHODS and isinstance(node.ctx, ast.Load):
+            if not isinstance(parents[node], ast.Call) or parents[node].func is not node:
+                faults.append("L25 method handed on")
+        if isinstance(node, ast.Compare) and any(isinstance(sign, (ast.Is, ast.IsNot)) for sign in node.ops):
+            if not any(isinstance(side, ast.Constant) and side.value in (None, True, False)
+                       for side in [node.left] + node.comparators):
+                faults.append("L20 is")
+        if isinstance(node, ast.BinOp) and isinstance(node.op, ast.Pow):
+            if not isinstance(node.right, ast.Constant) or not 0 <= node.right.value <= 64:
+                faults.append("L27 exponent")
+        if isinstance(node, ast.ExceptHandler) and getattr(node.type, "id", "Exception") in ("Exception", "TypeError"):
+            faults.append("L19 handler")
+        if isinstance(node, ast.arg) and node.annotation or isinstance(node, ast.FunctionDef) and node.returns:
+            faults.append("L21 annotation")
+        if isinstance(node, ast.FunctionDef) and node.name == "__init__":
+            if any(isinstance(part, ast.Return) for part in ast.walk(node)):
+                faults.append("L28 return")
+    return faults
+
+
+def top_name_faults(tree):
+    faults = []
+    top = []
+    for part in tree.body:
+        if isinstance(part, ast.ImportFrom):
+            top.extend(alias.name for alias in part.names)
+        elif isinstance(part, (ast.FunctionDef, ast.ClassDef)):
+            top.append(part.name)
+        elif isinstance(part, ast.Assign):
+            top.extend(getattr(target, "id", "?") for target in part.targets)
+    if len(set(top)) != len(top):
+        faults.append("L15 bound twice")
+    inner = [node.arg for node in ast.walk(tree) if isinstance(node, ast.arg)]
+    for part in tree.body:
+        if isinstance(part, (ast.FunctionDef, ast.ClassDef)):
+            names = [node for node in ast.walk(part) if isinstance(node, ast.Name)]
+            inner.extend(node.id for node in names if isinstance(node.ctx, ast.Store))
+            if any(isinstance(node, ast.ClassDef) and node is not part for node in ast.walk(part)):
+                faults.append("L15 class within")
+    if set(inner) & set(top):
+        faults.append("L15 called like a name of the file's top")
+    return faults
+
+
 def faults_of(text, methods=frozenset()):
     tree = ast.parse(text)
     docstring = docstring_of(tree)
     faults = text_faults(text) + name_faults(tree) + top_faults(tree, docstring)
+    faults.extend(use_faults(tree) + top_name_faults(tree))
     for node in ast.walk(tree):
         faults.extend(node_faults(node, docstring, methods))
     return faults
@@ -152,8 +242,21 @@ def own_methods(texts):
     return found
 
 
+def own_values(texts):
+    found = set()
+    for text in texts:
+        for node in ast.walk(ast.parse(text)):
+            if isinstance(node, ast.Attribute) and isinstance(node.ctx, ast.Store):
+                found.add(node.attr)
+    return found
+
+
 def drawn_from(text):
     return [node.module for node in ast.walk(ast.parse(text)) if isinstance(node, ast.ImportFrom)]
+
+
+def drawn_names(text):
+    return [part.name for node in ast.walk(ast.parse(text)) if isinstance(node, ast.ImportFrom) for part in node.names]
 
 
 class TestPackage(unittest.TestCase):
@@ -170,6 +273,23 @@ class TestPackage(unittest.TestCase):
         methods = own_methods(self.texts.values())
         for name, text in self.texts.items():
             self.assertEqual(faults_of(text, methods), [], name)
+
+    def test_methods_and_values_bear_free_names(self):
+        methods = own_methods(self.texts.values())
+        values = own_values(self.texts.values())
+        self.assertEqual(methods & values, set())
+        self.assertEqual(methods & PYTHONS_OWN - FREE_METHODS, set())
+        self.assertEqual(values & PYTHONS_OWN - FREE_VALUES, set())
+
+    def test_names_are_drawn_from_the_files_that_define_them(self):
+        for text in self.texts.values():
+            for node in ast.walk(ast.parse(text)):
+                if isinstance(node, ast.ImportFrom):
+                    defined = bound_names(ast.parse(self.texts[node.module.partition(".")[2]]))
+                    drawn = drawn_names(self.texts[node.module.partition(".")[2]])
+                    for part in node.names:
+                        self.assertIn(part.name, defined)
+                        self.assertNotIn(part.name, drawn)
 
     def test_no_two_files_draw_from_one_another(self):
         self.assertEqual(drawn_from(self.texts["__init__"]), [])
@@ -196,6 +316,13 @@ class TestTheWalk(unittest.TestCase):
             "class A:\n    x = 1\n", "class A(B, C):\n    pass\n", "# the type of it\n", "# a sign \u00e9\n", "X = '50%'\n",
             "# " + "x" * 120 + "\n", "def f():\n" + "    pass\n" * 40, "# x\n" * 401, "def f():\n\treturn 1\n",
             "def f(a):\n    return (b := a)\n", "def f(a):\n    with a:\n        pass\n", "def f(a, b):\n    return f(*a)\n",
+            "def f(a):\n    return zip(a, a)\n", "def f(a):\n    b = a.items()\n", "def f(a):\n    return set(a)\n",
+            "def f(a):\n    for b in set(a):\n        pass\n", "def f(a, b):\n    return a is b\n",
+            "def f(a):\n    return 2 ** a\n", "def f(a):\n    return a.get\n", "def f(a: int):\n    pass\n",
+            "def f(a):\n    return int(a, base=2)\n", "X = 1\nX = 2\n", "X = 1\n\n\ndef f(X):\n    pass\n",
+            "def f(a):\n    try:\n        a()\n    except TypeError:\n        pass\n",
+            "class A:\n    def __init__(self):\n        return None\n",
+            "def f():\n    class A:\n        pass\n", "def g():\n    pass\n\n\ndef f(a):\n    g = a\n",
         ):
             with self.subTest(text=text[:60]):
                 self.assertNotEqual(faults_of(text), [])
